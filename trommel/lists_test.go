@@ -1,0 +1,165 @@
+package trommel_test
+
+import (
+	"runtime"
+	"slices"
+	"sync"
+	"testing"
+
+	"trommel/api"
+	"trommel/trommel"
+)
+
+// withRoom copies a list into memory with spare room that is filled with junk.
+func withRoom[T any](l []T, junk T) []T {
+	whole := append(slices.Clone(l), junk, junk, junk)
+	return whole[:len(l)]
+}
+
+// wantWhole looks at a list of withRoom, and at its spare room.
+func wantWhole[T comparable](t *testing.T, what string, got, want []T, junk T) {
+	t.Helper()
+	if !slices.Equal(got[:len(got)+3], append(slices.Clone(want), junk, junk, junk)) {
+		t.Fatalf("P2: %s was written into: %v", what, got[:len(got)+3])
+	}
+}
+
+// spoil writes over a list, and over its spare room.
+func spoil[T any](l []T, junk T) {
+	l = l[:cap(l)]
+	for i := range l {
+		l[i] = junk
+	}
+}
+
+func TestListsHandedInAreLeftAlone(t *testing.T) {
+	junkCond, junkField := cond(77, 77, num(77)), field(77, num(77))
+	types := []int{api.Number, api.Word}
+	schema := withRoom(types, 77)
+	e, no := trommel.New(schema)
+	if no != api.OK {
+		t.Fatal(no)
+	}
+	wantWhole(t, "the schema", schema, types, 77)
+
+	conds := []api.Cond{cond(1, api.Begins, word("a")), cond(0, api.IsNot, num(1))}
+	filter := withRoom(conds, junkCond)
+	subscribe(t, e, 5, filter...)
+	wantWhole(t, "a filter", filter, conds, junkCond)
+	wantSubscribe(t, e, 5, filter, api.ErrTwice, 0)
+	wantWhole(t, "a filter that is refused", filter, conds, junkCond)
+
+	for _, fields := range [][]api.Field{
+		event(field(1, word("ab")), field(0, num(2))),
+		event(field(1, word("ab")), field(1, word("b"))),
+	} {
+		l := withRoom(fields, junkField)
+		e.Match(l)
+		wantWhole(t, "an event", l, fields, junkField)
+	}
+}
+
+func TestListsHandedInAreNotKept(t *testing.T) {
+	schema := []int{api.Number, api.Word}
+	e, _ := trommel.New(schema)
+	spoil(schema, api.Word)
+	filter := []api.Cond{cond(0, api.Is, num(1)), cond(1, api.Is, word("a"))}
+	subscribe(t, e, 5, filter...)
+	spoil(filter, api.Cond{Attr: 77})
+	fields := event(field(0, num(1)), field(1, word("a")))
+	wantMatch(t, e, fields, 5)
+	spoil(fields, api.Field{Attr: 77})
+	wantMatch(t, e, event(field(1, word("a")), field(0, num(1))), 5)
+	wantMatch(t, e, event(field(0, num(2)), field(1, word("a"))))
+	wantRefused(t, e, event(field(0, word("a"))), 0)
+}
+
+func TestListsThatComeOutAreNew(t *testing.T) {
+	e := newEngine(t, api.Number)
+	for id := range 9 {
+		subscribe(t, e, id, cond(0, api.AtLeast, num(int64(id))))
+	}
+	four, _, _ := e.Match(event(field(0, num(3))))
+	three, _, _ := e.Match(event(field(0, num(2))))
+	again, _, _ := e.Match(event(field(0, num(3))))
+	spoil(four, 77)
+	if !slices.Equal(three, []int{0, 1, 2}) || !slices.Equal(again, []int{0, 1, 2, 3}) {
+		t.Fatalf("P2: other answers changed: %v, %v", three, again)
+	}
+	spoil(again, 78)
+	wantMatch(t, e, event(field(0, num(3))), 0, 1, 2, 3)
+	wantMatch(t, e, event(field(0, num(8))), 0, 1, 2, 3, 4, 5, 6, 7, 8)
+	wantUnsubscribe(t, e, 77, api.ErrNone)
+}
+
+func TestAnswersStayWhenFiltersGo(t *testing.T) {
+	e := newEngine(t, api.Number)
+	for id := range 5 {
+		subscribe(t, e, id)
+	}
+	all, _, _ := e.Match(nil)
+	wantUnsubscribe(t, e, 0, api.OK)
+	subscribe(t, e, 9)
+	if !slices.Equal(all, []int{0, 1, 2, 3, 4}) {
+		t.Fatalf("P2: an answer changed: %v", all)
+	}
+}
+
+func TestEnginesDoNotDisturbOneAnother(t *testing.T) {
+	schema := []int{api.Number, api.Word}
+	one, _ := trommel.New(schema)
+	other, _ := trommel.New(schema)
+	filter := []api.Cond{cond(0, api.Is, num(1))}
+	subscribe(t, one, 1, filter...)
+	wantMatch(t, other, event(field(0, num(1))))
+	wantUnsubscribe(t, other, 1, api.ErrNone)
+	subscribe(t, other, 1, filter...)
+	wantUnsubscribe(t, one, 1, api.OK)
+	wantMatch(t, one, event(field(0, num(1))))
+	wantMatch(t, other, event(field(0, num(1))), 1)
+}
+
+func TestEnginesSideBySide(t *testing.T) {
+	filter := []api.Cond{cond(0, api.AtLeast, num(3)), cond(0, api.Below, num(6))}
+	fields := event(field(0, num(4)))
+	answers := make([][]int, 8)
+	var done sync.WaitGroup
+	for i := range answers {
+		done.Add(1)
+		go func() {
+			defer done.Done()
+			e, _ := trommel.New([]int{api.Number})
+			for id := range api.MaxFilters {
+				e.Subscribe(i+id, filter)
+			}
+			e.Unsubscribe(i + 1)
+			answers[i], _, _ = e.Match(fields)
+		}()
+	}
+	done.Wait()
+	for i, ids := range answers {
+		want := []int{i}
+		for id := 2; id < api.MaxFilters; id++ {
+			want = append(want, i+id)
+		}
+		if !slices.Equal(ids, want) {
+			t.Errorf("P2: engine %d: %v", i, ids)
+		}
+	}
+}
+
+func TestNoGoroutineIsLeft(t *testing.T) {
+	ahead := runtime.NumGoroutine()
+	e := newEngine(t, api.Number)
+	for id := range api.MaxFilters {
+		subscribe(t, e, id, cond(0, api.Has, api.Value{}))
+		e.Match(event(field(0, num(1))))
+		if now := runtime.NumGoroutine(); now > ahead {
+			t.Fatalf("P2: %d goroutines more", now-ahead)
+		}
+	}
+	e.Unsubscribe(1)
+	if now := runtime.NumGoroutine(); now > ahead {
+		t.Fatalf("P2: %d goroutines more", now-ahead)
+	}
+}

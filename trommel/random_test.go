@@ -1,0 +1,305 @@
+package trommel_test
+
+import (
+	"math"
+	"math/rand/v2"
+	"slices"
+	"strings"
+	"testing"
+
+	"trommel/api"
+	"trommel/trommel"
+)
+
+// model answers what the document says in the plainest way, to hold an engine against.
+type model struct {
+	schema  []int
+	filters map[int][]api.Cond
+}
+
+func modelFits(attrType int, v api.Value) bool {
+	switch attrType {
+	case api.Number:
+		return len(v.S) == 0
+	case api.Word:
+		return v.N == 0 && len(v.S) <= 20
+	}
+	return false
+}
+
+func (m *model) mayBe(c api.Cond) bool {
+	if c.Attr < 0 || c.Attr >= len(m.schema) {
+		return false
+	}
+	zero := api.Value{}
+	attrType := m.schema[c.Attr]
+	switch c.Kind {
+	case 1, 2, 3, 4, 5, 6:
+		return modelFits(attrType, c.A) && c.B == zero
+	case 7:
+		return modelFits(attrType, c.A) && modelFits(attrType, c.B)
+	case 8:
+		return attrType == api.Word && modelFits(attrType, c.A) && c.B == zero
+	case 9:
+		return c.A == zero && c.B == zero
+	}
+	return false
+}
+
+func (m *model) subscribe(id int, filter []api.Cond) (api.Errno, int) {
+	if id < 0 {
+		return api.ErrId, 0
+	}
+	if _, there := m.filters[id]; there {
+		return api.ErrTwice, 0
+	}
+	if len(filter) > 8 {
+		return api.ErrMany, 0
+	}
+	for i, c := range filter {
+		if !m.mayBe(c) {
+			return api.ErrCond, i
+		}
+	}
+	if len(m.filters) == 100 {
+		return api.ErrFull, 0
+	}
+	m.filters[id] = slices.Clone(filter)
+	return api.OK, 0
+}
+
+func (m *model) unsubscribe(id int) api.Errno {
+	if _, there := m.filters[id]; !there {
+		return api.ErrNone
+	}
+	delete(m.filters, id)
+	return api.OK
+}
+
+// ahead tells whether x is ahead of y, byte by byte.
+func ahead(x, y api.Value) bool {
+	if x.N != y.N {
+		return x.N < y.N
+	}
+	for i := 0; i < len(x.S) && i < len(y.S); i++ {
+		if x.S[i] != y.S[i] {
+			return x.S[i] < y.S[i]
+		}
+	}
+	return len(x.S) < len(y.S)
+}
+
+func modelMeets(fields []api.Field, c api.Cond) bool {
+	for _, f := range fields {
+		if f.Attr != c.Attr {
+			continue
+		}
+		x := f.V
+		switch c.Kind {
+		case 1:
+			return x == c.A
+		case 2:
+			return x != c.A
+		case 3:
+			return ahead(x, c.A)
+		case 4:
+			return ahead(x, c.A) || x == c.A
+		case 5:
+			return ahead(c.A, x)
+		case 6:
+			return ahead(c.A, x) || x == c.A
+		case 7:
+			return !ahead(x, c.A) && !ahead(c.B, x)
+		case 8:
+			return len(x.S) >= len(c.A.S) && x.S[:len(c.A.S)] == c.A.S
+		case 9:
+			return true
+		}
+	}
+	return false
+}
+
+func (m *model) match(fields []api.Field) ([]int, api.Errno, int) {
+	for i, f := range fields {
+		if f.Attr < 0 || f.Attr >= len(m.schema) || !modelFits(m.schema[f.Attr], f.V) {
+			return nil, api.ErrEvent, i
+		}
+		for _, earlier := range fields[:i] {
+			if earlier.Attr == f.Attr {
+				return nil, api.ErrEvent, i
+			}
+		}
+	}
+	var ids []int
+filters:
+	for id, filter := range m.filters {
+		for _, c := range filter {
+			if !modelMeets(fields, c) {
+				continue filters
+			}
+		}
+		ids = append(ids, id)
+	}
+	slices.Sort(ids)
+	return ids, api.OK, 0
+}
+
+// source makes arguments; the seed is fixed, so that each run makes the same.
+type source struct{ *rand.Rand }
+
+func pick[T any](r source, l ...T) T { return l[r.IntN(len(l))] }
+
+func (r source) number() int64 {
+	return pick[int64](r, math.MinInt64, -2, -1, 0, 1, 2, math.MaxInt64)
+}
+
+func (r source) word() string {
+	return pick(r, "", "a", "ab", "ab\x00", "abc", "b", "\x00", "\xff", "é", strings.Repeat("a", 20))
+}
+
+func (r source) anyInt() int { return pick(r, edgeNumbers()...) }
+
+func (r source) anyValue() api.Value {
+	return api.Value{N: pick(r, 0, r.number()), S: pick(r, "", r.word(), strings.Repeat("a", 21))}
+}
+
+// value mostly fits.
+func (r source) value(attrType int) api.Value {
+	if r.IntN(40) == 0 {
+		return r.anyValue()
+	}
+	if attrType == api.Number {
+		return api.Value{N: r.number()}
+	}
+	return api.Value{S: r.word()}
+}
+
+// cond mostly may be.
+func (r source) cond(schema []int) api.Cond {
+	if r.IntN(40) == 0 {
+		return api.Cond{Attr: r.anyInt(), Kind: r.anyInt(), A: r.anyValue(), B: r.anyValue()}
+	}
+	c := api.Cond{Attr: r.IntN(len(schema)), Kind: 1 + r.IntN(9)}
+	if c.Kind != api.Has {
+		c.A = r.value(schema[c.Attr])
+	}
+	if c.Kind == api.Between {
+		c.B = r.value(schema[c.Attr])
+	}
+	return c
+}
+
+func (r source) filter(schema []int) []api.Cond {
+	var l []api.Cond
+	for range pick(r, 0, 1, 1, 2, 2, 3, 8, 9) {
+		l = append(l, r.cond(schema))
+	}
+	return l
+}
+
+// event mostly may be.
+func (r source) event(schema []int) []api.Field {
+	var l []api.Field
+	for _, attr := range r.Perm(len(schema)) {
+		if r.IntN(6) > 0 {
+			l = append(l, field(attr, r.value(schema[attr])))
+		}
+	}
+	if r.IntN(20) == 0 {
+		l = append(l, field(r.anyInt(), r.anyValue()), field(r.anyInt(), r.anyValue()))
+	}
+	return l
+}
+
+func (r source) id() int {
+	if r.IntN(20) == 0 {
+		return r.anyInt()
+	}
+	return r.IntN(140)
+}
+
+type pair struct {
+	engine *trommel.Engine
+	model  model
+}
+
+// step makes one call, and spoils what it handed in and what came out.
+func step(t *testing.T, r source, p *pair) {
+	t.Helper()
+	junkCond, junkField := cond(77, 77, num(77)), field(77, num(77))
+	switch r.IntN(8) {
+	case 0:
+		id := r.id()
+		if got, want := p.engine.Unsubscribe(id), p.model.unsubscribe(id); got != want {
+			t.Fatalf("P5: Unsubscribe(%d) = %d, want %d", id, got, want)
+		}
+	case 1, 2, 3:
+		id, filter := r.id(), r.filter(p.model.schema)
+		given := withRoom(filter, junkCond)
+		no, at := p.engine.Subscribe(id, given)
+		wantNo, wantAt := p.model.subscribe(id, filter)
+		if no != wantNo || at != wantAt {
+			t.Fatalf("P4: Subscribe(%d, %v) = %d, %d, want %d, %d", id, filter, no, at, wantNo, wantAt)
+		}
+		wantWhole(t, "a filter", given, filter, junkCond)
+		spoil(given, junkCond)
+	default:
+		fields := r.event(p.model.schema)
+		given := withRoom(fields, junkField)
+		ids, no, at := p.engine.Match(given)
+		wantIds, wantNo, wantAt := p.model.match(fields)
+		if !slices.Equal(ids, wantIds) || no != wantNo || at != wantAt {
+			t.Fatalf("P6: Match(%v) = %v, %d, %d, want %v, %d, %d", fields, ids, no, at, wantIds, wantNo, wantAt)
+		}
+		wantWhole(t, "an event", given, fields, junkField)
+		spoil(given, junkField)
+		spoil(ids, 77)
+	}
+}
+
+// Several engines side by side answer as the model does, whatever each of them is asked.
+func TestRandomCalls(t *testing.T) {
+	r := source{rand.New(rand.NewPCG(1, 2))}
+	var pairs []pair
+	for range 12 {
+		var schema []int
+		for range 1 + r.IntN(6) {
+			schema = append(schema, 1+r.IntN(2))
+		}
+		pairs = append(pairs, pair{newEngine(t, schema...), model{schema, map[int][]api.Cond{}}})
+	}
+	for range 60_000 {
+		step(t, r, &pairs[r.IntN(len(pairs))])
+	}
+}
+
+// Every combination of odd parts: no call panics, and with an error all else is empty.
+func TestOddArguments(t *testing.T) {
+	long := strings.Repeat("\xff", 1<<16)
+	values := []api.Value{{}, num(-1), num(math.MinInt64), word("a"), word(long), {N: 1, S: long}}
+	e := newEngine(t, api.Number, api.Word, api.Number)
+	m := model{[]int{api.Number, api.Word, api.Number}, map[int][]api.Cond{}}
+	for _, attr := range edgeNumbers() {
+		for _, a := range values {
+			l := event(field(attr, a), field(attr, a))
+			for _, fields := range [][]api.Field{l, l[:1]} {
+				ids, no, at := e.Match(fields)
+				_, wantNo, wantAt := m.match(fields)
+				if len(ids) != 0 || no != wantNo || at != wantAt {
+					t.Fatalf("P6: Match(%v) = %v, %d, %d, want %d, %d", fields, ids, no, at, wantNo, wantAt)
+				}
+			}
+			for _, kind := range edgeNumbers() {
+				for _, b := range values {
+					c := api.Cond{Attr: attr, Kind: kind, A: a, B: b}
+					want := api.ErrCond
+					if m.mayBe(c) {
+						want = api.OK
+					}
+					wantSubscribe(t, e, 1, []api.Cond{c}, want, 0)
+					e.Unsubscribe(1)
+				}
+			}
+		}
+	}
+}
