@@ -1,6 +1,7 @@
 package terms
 
 import (
+	"cmp"
 	"strings"
 
 	"trommel/api"
@@ -41,21 +42,14 @@ func secondMayBe(attrType int, c api.Cond) bool {
 	return c.B == api.Value{}
 }
 
-// CopyFilter gives a filter that shares no memory with the given one.
-// The words are copied too: a short piece of a long text would keep all of it.
-func CopyFilter(filter []api.Cond) []api.Cond {
-	l := make([]api.Cond, len(filter))
-	for i, c := range filter {
-		c.A.S = strings.Clone(c.A.S)
-		c.B.S = strings.Clone(c.B.S)
-		l[i] = c
-	}
-	return l
+// CompareConds is below 0 if x is to stand ahead of y, 0 if they are the same, and above 0 if x is to stand behind y.
+func CompareConds(x, y api.Cond) int {
+	return cmp.Or(cmp.Compare(x.Attr, y.Attr), cmp.Compare(x.Kind, y.Kind), Compare(x.A, y.A), Compare(x.B, y.B))
 }
 
-// holds tells whether the value x of a condition's attribute meets the condition.
-func holds(c api.Cond, x api.Value) bool {
-	side := compare(x, c.A)
+// Holds tells whether the value x of a condition's attribute meets the condition.
+func Holds(c api.Cond, x api.Value) bool {
+	side := Compare(x, c.A)
 	switch c.Kind {
 	case api.Is:
 		return side == 0
@@ -70,7 +64,7 @@ func holds(c api.Cond, x api.Value) bool {
 	case api.AtLeast:
 		return side >= 0
 	case api.Between:
-		return side >= 0 && compare(x, c.B) <= 0
+		return side >= 0 && Compare(x, c.B) <= 0
 	case api.Begins:
 		return strings.HasPrefix(x.S, c.A.S)
 	}

@@ -21,12 +21,7 @@ func ReadEvent(schema []int, fields []api.Field) (Event, int, bool) {
 	return e, 0, true
 }
 
-// Meets tells whether the event meets each condition of a filter.
-func (e *Event) Meets(filter []api.Cond) bool {
-	for _, c := range filter {
-		if !e.has[c.Attr] || !holds(c, e.values[c.Attr]) {
-			return false
-		}
-	}
-	return true
+// Value gives the event's value of an attribute, and whether it has one.
+func (e *Event) Value(attr int) (api.Value, bool) {
+	return e.values[attr], e.has[attr]
 }

@@ -25,6 +25,21 @@ func hasAttr(schema []int, attr int) bool {
 	return attr >= 0 && attr < len(schema)
 }
 
+// OrderMayBe tells whether an order has each attribute once.
+func OrderMayBe(schema, order []int) bool {
+	if len(order) != len(schema) {
+		return false
+	}
+	var seen [api.MaxAttrs]bool
+	for _, attr := range order {
+		if !hasAttr(schema, attr) || seen[attr] {
+			return false
+		}
+		seen[attr] = true
+	}
+	return true
+}
+
 // fits tells whether a value is one of the given type of attribute.
 func fits(attrType int, v api.Value) bool {
 	if attrType == api.Number {
@@ -33,8 +48,8 @@ func fits(attrType int, v api.Value) bool {
 	return v.N == 0 && len(v.S) <= api.MaxWord
 }
 
-// compare is below 0 if x is ahead of y, 0 if x is y, and above 0 if x is behind y.
+// Compare is below 0 if x is ahead of y, 0 if x is y, and above 0 if x is behind y.
 // It need not know the type: of two values that fit one attribute, the half that is not used is the same.
-func compare(x, y api.Value) int {
+func Compare(x, y api.Value) int {
 	return cmp.Or(cmp.Compare(x.N, y.N), strings.Compare(x.S, y.S))
 }

@@ -15,8 +15,8 @@ func TestCompare(t *testing.T) {
 	for _, l := range rising {
 		for i, x := range l {
 			for k, y := range l {
-				if side := compare(x, y); side < 0 != (i < k) || side > 0 != (i > k) {
-					t.Errorf("compare(%v, %v) = %d", x, y, side)
+				if side := Compare(x, y); side < 0 != (i < k) || side > 0 != (i > k) {
+					t.Errorf("Compare(%v, %v) = %d", x, y, side)
 				}
 			}
 		}
@@ -51,15 +51,62 @@ func TestBadCond(t *testing.T) {
 	}
 }
 
-func TestCopyFilter(t *testing.T) {
-	filter := []api.Cond{{Kind: api.Between, A: api.Value{S: "a"}, B: api.Value{S: "b"}}, {Kind: api.Has}}
-	l := CopyFilter(filter)
-	if !slices.Equal(l, filter) {
-		t.Fatalf("CopyFilter = %v", l)
+func TestOrderMayBe(t *testing.T) {
+	for _, c := range []struct {
+		attrs int
+		order []int
+		want  bool
+	}{
+		{1, []int{0}, true},
+		{2, []int{1, 0}, true},
+		{6, []int{5, 3, 1, 0, 2, 4}, true},
+		{1, nil, false},
+		{1, []int{1}, false},
+		{2, []int{0}, false},
+		{2, []int{0, 0}, false},
+		{2, []int{0, -1}, false},
+		{2, []int{0, 1, 1}, false},
+		{6, []int{0, 1, 2, 3, 4, 6}, false},
+		{6, []int{0, 1, 2, 3, 4, 5, 6}, false},
+	} {
+		if OrderMayBe(make([]int, c.attrs), c.order) != c.want {
+			t.Errorf("OrderMayBe of %d attributes, %v: %v", c.attrs, c.order, !c.want)
+		}
 	}
-	filter[0] = api.Cond{}
-	if l[0].Kind != api.Between {
-		t.Error("the copy changed with the filter")
+}
+
+func TestCompareConds(t *testing.T) {
+	rising := []api.Cond{
+		{Kind: api.Between, B: api.Value{N: 9}},
+		{Kind: api.Between, A: api.Value{N: 1}, B: api.Value{N: 2}},
+		{Kind: api.Between, A: api.Value{N: 1}, B: api.Value{N: 3}},
+		{Kind: api.Has},
+		{Attr: 1, Kind: api.Is, A: api.Value{S: "a"}},
+		{Attr: 1, Kind: api.Is, A: api.Value{S: "b"}},
+	}
+	for i, x := range rising {
+		for k, y := range rising {
+			if side := CompareConds(x, y); side < 0 != (i < k) || side > 0 != (i > k) {
+				t.Errorf("CompareConds(%v, %v) = %d", x, y, side)
+			}
+		}
+	}
+}
+
+func TestNewFilter(t *testing.T) {
+	has, is := api.Cond{Attr: 1, Kind: api.Has}, api.Cond{Kind: api.Is, A: api.Value{N: 5}}
+	below := api.Cond{Attr: 1, Kind: api.Below, A: api.Value{S: "a"}}
+	conds := []api.Cond{has, below, is, has, is}
+	f := NewFilter(4, conds)
+	if f.Id != 4 || !slices.Equal(f.Conds, []api.Cond{is, below, has}) {
+		t.Fatalf("NewFilter = %v", f)
+	}
+	if !slices.Equal(conds, []api.Cond{has, below, is, has, is}) {
+		t.Errorf("NewFilter wrote into the conditions: %v", conds)
+	}
+	clear(conds)
+	if !slices.Equal(f.On(0), []api.Cond{is}) || !slices.Equal(f.On(1), []api.Cond{below, has}) || len(f.On(2)) != 0 {
+		t.Errorf("On: %v, %v, %v", f.On(0), f.On(1), f.On(2))
 	}
 }
 
@@ -69,8 +116,11 @@ func TestReadEvent(t *testing.T) {
 	if at != 0 || !ok {
 		t.Fatalf("ReadEvent = %d, %v", at, ok)
 	}
-	if !e.Meets(nil) || !e.Meets([]api.Cond{{Attr: 1, Kind: api.Has}}) || e.Meets([]api.Cond{{Kind: api.Has}}) {
-		t.Error("the event has not just the attribute 1")
+	if v, has := e.Value(0); v != (api.Value{}) || has {
+		t.Errorf("Value(0) = %v, %v", v, has)
+	}
+	if v, has := e.Value(1); v != (api.Value{S: "a"}) || !has {
+		t.Errorf("Value(1) = %v, %v", v, has)
 	}
 	if _, at, ok := ReadEvent(schema, []api.Field{{}, {Attr: 1}, {Attr: 0}}); at != 2 || ok {
 		t.Errorf("ReadEvent of an attribute twice = %d, %v", at, ok)

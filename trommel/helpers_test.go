@@ -37,17 +37,46 @@ func wantUnsubscribe(t *testing.T, e *trommel.Engine, id int, want api.Errno) {
 	}
 }
 
+// way is one of the calls that tell which filters an event meets.
+type way struct {
+	name string
+	call func([]api.Field) ([]int, api.Errno, int)
+}
+
+func ways(e *trommel.Engine) []way {
+	return []way{{"P6: Match", e.Match}, {"P7: ByTree", e.ByTree}, {"P7: ByCount", e.ByCount}}
+}
+
 func wantMatch(t *testing.T, e *trommel.Engine, event []api.Field, want ...int) {
 	t.Helper()
-	if ids, no, at := e.Match(event); !slices.Equal(ids, want) || no != api.OK || at != 0 {
-		t.Fatalf("Match(%v) = %v, %d, %d, want %v", event, ids, no, at, want)
+	for _, w := range ways(e) {
+		if ids, no, at := w.call(event); !slices.Equal(ids, want) || no != api.OK || at != 0 {
+			t.Fatalf("%s(%v) = %v, %d, %d, want %v", w.name, event, ids, no, at, want)
+		}
 	}
 }
 
 func wantRefused(t *testing.T, e *trommel.Engine, event []api.Field, wantAt int) {
 	t.Helper()
-	if ids, no, at := e.Match(event); len(ids) != 0 || no != api.ErrEvent || at != wantAt {
-		t.Fatalf("Match(%v) = %v, %d, %d, want ErrEvent, %d", event, ids, no, at, wantAt)
+	for _, w := range ways(e) {
+		if ids, no, at := w.call(event); len(ids) != 0 || no != api.ErrEvent || at != wantAt {
+			t.Fatalf("%s(%v) = %v, %d, %d, want ErrEvent, %d", w.name, event, ids, no, at, wantAt)
+		}
+	}
+}
+
+func wantRebuild(t *testing.T, e *trommel.Engine, order []int, want api.Errno) {
+	t.Helper()
+	if no := e.Rebuild(order); no != want {
+		t.Fatalf("P9: Rebuild(%v) = %d, want %d", order, no, want)
+	}
+}
+
+func wantStats(t *testing.T, e *trommel.Engine, filters, nodes, events int) {
+	t.Helper()
+	want := api.Stats{Filters: filters, Nodes: nodes, Events: events}
+	if got := e.Stats(); got != want {
+		t.Fatalf("P10: Stats() = %+v, want %+v", got, want)
 	}
 }
 

@@ -53,9 +53,18 @@ func TestListsHandedInAreLeftAlone(t *testing.T) {
 		event(field(1, word("ab")), field(0, num(2))),
 		event(field(1, word("ab")), field(1, word("b"))),
 	} {
-		l := withRoom(fields, junkField)
-		e.Match(l)
-		wantWhole(t, "an event", l, fields, junkField)
+		for _, w := range ways(e) {
+			l := withRoom(fields, junkField)
+			w.call(l)
+			wantWhole(t, "an event", l, fields, junkField)
+		}
+	}
+
+	for _, attrs := range [][]int{{1, 0}, {1, 1}, {1, 0, 1}} {
+		order := withRoom(attrs, 77)
+		e.Rebuild(order)
+		e.Stats()
+		wantWhole(t, "an order", order, attrs, 77)
 	}
 }
 
@@ -72,36 +81,54 @@ func TestListsHandedInAreNotKept(t *testing.T) {
 	wantMatch(t, e, event(field(1, word("a")), field(0, num(1))), 5)
 	wantMatch(t, e, event(field(0, num(2)), field(1, word("a"))))
 	wantRefused(t, e, event(field(0, word("a"))), 0)
+
+	order := []int{1, 0}
+	wantRebuild(t, e, order, api.OK)
+	spoil(order, 77)
+	wantMatch(t, e, event(field(1, word("a")), field(0, num(1))), 5)
+	wantMatch(t, e, event(field(0, num(2)), field(1, word("a"))))
+	wantStats(t, e, 1, 3, 15)
 }
 
 func TestListsThatComeOutAreNew(t *testing.T) {
 	e := newEngine(t, api.Number)
+	subscribe(t, e, 100)
 	for id := range 9 {
 		subscribe(t, e, id, cond(0, api.AtLeast, num(int64(id))))
 	}
-	four, _, _ := e.Match(event(field(0, num(3))))
-	three, _, _ := e.Match(event(field(0, num(2))))
-	again, _, _ := e.Match(event(field(0, num(3))))
-	spoil(four, 77)
-	if !slices.Equal(three, []int{0, 1, 2}) || !slices.Equal(again, []int{0, 1, 2, 3}) {
-		t.Fatalf("P2: other answers changed: %v, %v", three, again)
+	for _, w := range ways(e) {
+		five, _, _ := w.call(event(field(0, num(3))))
+		four, _, _ := w.call(event(field(0, num(2))))
+		again, _, _ := w.call(event(field(0, num(3))))
+		one, _, _ := w.call(nil)
+		spoil(five, 77)
+		if !slices.Equal(four, []int{0, 1, 2, 100}) || !slices.Equal(again, []int{0, 1, 2, 3, 100}) {
+			t.Fatalf("P2: %s: other answers changed: %v, %v", w.name, four, again)
+		}
+		spoil(again, 78)
+		spoil(one, 79)
+		wantMatch(t, e, nil, 100)
+		wantMatch(t, e, event(field(0, num(3))), 0, 1, 2, 3, 100)
+		wantMatch(t, e, event(field(0, num(8))), 0, 1, 2, 3, 4, 5, 6, 7, 8, 100)
 	}
-	spoil(again, 78)
-	wantMatch(t, e, event(field(0, num(3))), 0, 1, 2, 3)
-	wantMatch(t, e, event(field(0, num(8))), 0, 1, 2, 3, 4, 5, 6, 7, 8)
 	wantUnsubscribe(t, e, 77, api.ErrNone)
 }
 
 func TestAnswersStayWhenFiltersGo(t *testing.T) {
-	e := newEngine(t, api.Number)
-	for id := range 5 {
-		subscribe(t, e, id)
-	}
-	all, _, _ := e.Match(nil)
-	wantUnsubscribe(t, e, 0, api.OK)
-	subscribe(t, e, 9)
-	if !slices.Equal(all, []int{0, 1, 2, 3, 4}) {
-		t.Fatalf("P2: an answer changed: %v", all)
+	for i := range ways(nil) {
+		e := newEngine(t, api.Number)
+		for id := range 5 {
+			subscribe(t, e, id)
+		}
+		w := ways(e)[i]
+		all, _, _ := w.call(nil)
+		wantUnsubscribe(t, e, 0, api.OK)
+		subscribe(t, e, 9)
+		wantRebuild(t, e, []int{0}, api.OK)
+		wantMatch(t, e, nil, 1, 2, 3, 4, 9)
+		if !slices.Equal(all, []int{0, 1, 2, 3, 4}) {
+			t.Fatalf("P2: %s: an answer changed: %v", w.name, all)
+		}
 	}
 }
 
@@ -117,6 +144,9 @@ func TestEnginesDoNotDisturbOneAnother(t *testing.T) {
 	wantUnsubscribe(t, one, 1, api.OK)
 	wantMatch(t, one, event(field(0, num(1))))
 	wantMatch(t, other, event(field(0, num(1))), 1)
+	wantRebuild(t, one, []int{1, 0}, api.OK)
+	wantStats(t, one, 0, 1, 3)
+	wantStats(t, other, 1, 2, 6)
 }
 
 func TestEnginesSideBySide(t *testing.T) {
@@ -153,12 +183,16 @@ func TestNoGoroutineIsLeft(t *testing.T) {
 	e := newEngine(t, api.Number)
 	for id := range api.MaxFilters {
 		subscribe(t, e, id, cond(0, api.Has, api.Value{}))
-		e.Match(event(field(0, num(1))))
+		for _, w := range ways(e) {
+			w.call(event(field(0, num(1))))
+		}
+		e.Stats()
 		if now := runtime.NumGoroutine(); now > ahead {
 			t.Fatalf("P2: %d goroutines more", now-ahead)
 		}
 	}
 	e.Unsubscribe(1)
+	e.Rebuild([]int{0})
 	if now := runtime.NumGoroutine(); now > ahead {
 		t.Fatalf("P2: %d goroutines more", now-ahead)
 	}

@@ -24,6 +24,15 @@ func TestExamples(t *testing.T) {
 	wrong := []api.Cond{cond(1, api.Has, api.Value{}), cond(1, api.Is, num(1))}
 	wantSubscribe(t, e, 8, wrong, api.ErrCond, 1)
 
+	wantRebuild(t, e, []int{1, 0}, api.OK)
+	for _, order := range [][]int{{0, 0}, {1}, {0, 1, 2}} {
+		wantRebuild(t, e, order, api.ErrOrder)
+	}
+	for _, id := range []int{9, 7, 3} {
+		wantUnsubscribe(t, e, id, api.OK)
+	}
+	wantStats(t, e, 0, 1, 9)
+
 	e = newEngine(t, api.Number)
 	subscribe(t, e, 1, between(0, num(9), num(5)))
 	subscribe(t, e, 2, cond(0, api.Is, num(1)), cond(0, api.Is, num(2)))

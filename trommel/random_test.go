@@ -15,6 +15,7 @@ import (
 type model struct {
 	schema  []int
 	filters map[int][]api.Cond
+	events  int
 }
 
 func modelFits(attrType int, v api.Value) bool {
@@ -141,7 +142,27 @@ filters:
 		ids = append(ids, id)
 	}
 	slices.Sort(ids)
+	m.events++
 	return ids, api.OK, 0
+}
+
+func (m *model) rebuild(order []int) api.Errno {
+	sorted := slices.Sorted(slices.Values(order))
+	if len(order) != len(m.schema) {
+		return api.ErrOrder
+	}
+	for attr := range m.schema {
+		if sorted[attr] != attr {
+			return api.ErrOrder
+		}
+	}
+	return api.OK
+}
+
+// fits tells whether Stats may answer this.
+func (m *model) fits(s api.Stats) bool {
+	return s.Filters == len(m.filters) && s.Events == m.events &&
+		s.Nodes >= 1 && s.Nodes <= 1+len(m.filters)*len(m.schema)
 }
 
 // source makes arguments; the seed is fixed, so that each run makes the same.
@@ -218,6 +239,20 @@ func (r source) id() int {
 	return r.IntN(140)
 }
 
+// order mostly may be.
+func (r source) order(schema []int) []int {
+	l := r.Perm(len(schema))
+	switch r.IntN(12) {
+	case 0:
+		l[r.IntN(len(l))] = r.anyInt()
+	case 1:
+		l = append(l, r.anyInt())
+	case 2:
+		l = l[1:]
+	}
+	return l
+}
+
 type pair struct {
 	engine *trommel.Engine
 	model  model
@@ -226,35 +261,57 @@ type pair struct {
 // step makes one call, and spoils what it handed in and what came out.
 func step(t *testing.T, r source, p *pair) {
 	t.Helper()
-	junkCond, junkField := cond(77, 77, num(77)), field(77, num(77))
-	switch r.IntN(8) {
-	case 0:
+	switch r.IntN(20) {
+	case 0, 1:
 		id := r.id()
 		if got, want := p.engine.Unsubscribe(id), p.model.unsubscribe(id); got != want {
 			t.Fatalf("P5: Unsubscribe(%d) = %d, want %d", id, got, want)
 		}
-	case 1, 2, 3:
-		id, filter := r.id(), r.filter(p.model.schema)
-		given := withRoom(filter, junkCond)
-		no, at := p.engine.Subscribe(id, given)
-		wantNo, wantAt := p.model.subscribe(id, filter)
-		if no != wantNo || at != wantAt {
-			t.Fatalf("P4: Subscribe(%d, %v) = %d, %d, want %d, %d", id, filter, no, at, wantNo, wantAt)
+	case 2, 3, 4, 5, 6:
+		stepSubscribe(t, r, p)
+	case 7:
+		order := r.order(p.model.schema)
+		given := withRoom(order, 77)
+		wantRebuild(t, p.engine, given, p.model.rebuild(order))
+		wantWhole(t, "an order", given, order, 77)
+		spoil(given, 77)
+	case 8:
+		if s := p.engine.Stats(); !p.model.fits(s) {
+			t.Fatalf("P10: Stats() = %+v of %d filters and %d events", s, len(p.model.filters), p.model.events)
 		}
-		wantWhole(t, "a filter", given, filter, junkCond)
-		spoil(given, junkCond)
 	default:
-		fields := r.event(p.model.schema)
-		given := withRoom(fields, junkField)
-		ids, no, at := p.engine.Match(given)
-		wantIds, wantNo, wantAt := p.model.match(fields)
-		if !slices.Equal(ids, wantIds) || no != wantNo || at != wantAt {
-			t.Fatalf("P6: Match(%v) = %v, %d, %d, want %v, %d, %d", fields, ids, no, at, wantIds, wantNo, wantAt)
-		}
-		wantWhole(t, "an event", given, fields, junkField)
-		spoil(given, junkField)
-		spoil(ids, 77)
+		stepMatch(t, r, p)
 	}
+}
+
+func stepSubscribe(t *testing.T, r source, p *pair) {
+	t.Helper()
+	junk := cond(77, 77, num(77))
+	id, filter := r.id(), r.filter(p.model.schema)
+	given := withRoom(filter, junk)
+	no, at := p.engine.Subscribe(id, given)
+	wantNo, wantAt := p.model.subscribe(id, filter)
+	if no != wantNo || at != wantAt {
+		t.Fatalf("P4: Subscribe(%d, %v) = %d, %d, want %d, %d", id, filter, no, at, wantNo, wantAt)
+	}
+	wantWhole(t, "a filter", given, filter, junk)
+	spoil(given, junk)
+}
+
+func stepMatch(t *testing.T, r source, p *pair) {
+	t.Helper()
+	junk := field(77, num(77))
+	fields := r.event(p.model.schema)
+	w := pick(r, ways(p.engine)...)
+	given := withRoom(fields, junk)
+	ids, no, at := w.call(given)
+	wantIds, wantNo, wantAt := p.model.match(fields)
+	if !slices.Equal(ids, wantIds) || no != wantNo || at != wantAt {
+		t.Fatalf("%s(%v) = %v, %d, %d, want %v, %d, %d", w.name, fields, ids, no, at, wantIds, wantNo, wantAt)
+	}
+	wantWhole(t, "an event", given, fields, junk)
+	spoil(given, junk)
+	spoil(ids, 77)
 }
 
 // Several engines side by side answer as the model does, whatever each of them is asked.
@@ -266,7 +323,7 @@ func TestRandomCalls(t *testing.T) {
 		for range 1 + r.IntN(6) {
 			schema = append(schema, 1+r.IntN(2))
 		}
-		pairs = append(pairs, pair{newEngine(t, schema...), model{schema, map[int][]api.Cond{}}})
+		pairs = append(pairs, pair{newEngine(t, schema...), model{schema: schema, filters: map[int][]api.Cond{}}})
 	}
 	for range 60_000 {
 		step(t, r, &pairs[r.IntN(len(pairs))])
@@ -278,15 +335,15 @@ func TestOddArguments(t *testing.T) {
 	long := strings.Repeat("\xff", 1<<16)
 	values := []api.Value{{}, num(-1), num(math.MinInt64), word("a"), word(long), {N: 1, S: long}}
 	e := newEngine(t, api.Number, api.Word, api.Number)
-	m := model{[]int{api.Number, api.Word, api.Number}, map[int][]api.Cond{}}
+	m := model{schema: []int{api.Number, api.Word, api.Number}, filters: map[int][]api.Cond{}}
 	for _, attr := range edgeNumbers() {
 		for _, a := range values {
 			l := event(field(attr, a), field(attr, a))
 			for _, fields := range [][]api.Field{l, l[:1]} {
-				ids, no, at := e.Match(fields)
-				_, wantNo, wantAt := m.match(fields)
-				if len(ids) != 0 || no != wantNo || at != wantAt {
-					t.Fatalf("P6: Match(%v) = %v, %d, %d, want %d, %d", fields, ids, no, at, wantNo, wantAt)
+				if _, no, at := m.match(fields); no == api.OK {
+					wantMatch(t, e, fields)
+				} else {
+					wantRefused(t, e, fields, at)
 				}
 			}
 			for _, kind := range edgeNumbers() {
@@ -298,6 +355,7 @@ func TestOddArguments(t *testing.T) {
 					}
 					wantSubscribe(t, e, 1, []api.Cond{c}, want, 0)
 					e.Unsubscribe(1)
+					wantRebuild(t, e, []int{kind, attr}, api.ErrOrder)
 				}
 			}
 		}

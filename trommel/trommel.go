@@ -4,21 +4,32 @@ package trommel
 import (
 	"cmp"
 	"slices"
+	"sync"
+	"sync/atomic"
 
 	"trommel/api"
+	"trommel/index"
 	"trommel/terms"
+	"trommel/tree"
 )
 
 // Engine holds filters.
 type Engine struct {
 	schema []int
-	// Rising by their numbers, so that answers need not be sorted.
-	filters []subscription
+	// Rising by their numbers, so that one is found quickly.
+	filters []terms.Filter
+	// In this order the tree's levels ask for the attributes.
+	order []int
+	tree  *lateTree
+	index index.Index
+	// How many events were matched.
+	events atomic.Int64
 }
 
-type subscription struct {
-	id     int
-	filter []api.Cond
+// lateTree is a tree that is built when it is first asked. One that is to be made anew is laid aside for another.
+type lateTree struct {
+	once  sync.Once
+	built *tree.Tree
 }
 
 // New makes an engine without filters (P3).
@@ -26,13 +37,24 @@ func New(schema []int) (*Engine, api.Errno) {
 	if !terms.SchemaMayBe(schema) {
 		return nil, api.ErrSchema
 	}
-	return &Engine{schema: slices.Clone(schema)}, api.OK
+	e := &Engine{schema: slices.Clone(schema), tree: &lateTree{}}
+	for attr := range schema {
+		e.order = append(e.order, attr)
+	}
+	return e, api.OK
+}
+
+// askTree gives the tree, and builds it if it has not been asked since it was to be made anew.
+func (e *Engine) askTree() *tree.Tree {
+	late := e.tree
+	late.once.Do(func() { late.built = tree.Build(e.order, e.filters) })
+	return late.built
 }
 
 // find gives the place at which the filter of that number is or would be, and whether it is there.
 func (e *Engine) find(id int) (int, bool) {
-	return slices.BinarySearchFunc(e.filters, id, func(s subscription, id int) int {
-		return cmp.Compare(s.id, id)
+	return slices.BinarySearchFunc(e.filters, id, func(f terms.Filter, id int) int {
+		return cmp.Compare(f.Id, id)
 	})
 }
 
@@ -54,7 +76,10 @@ func (e *Engine) Subscribe(id int, filter []api.Cond) (api.Errno, int) {
 	if len(e.filters) >= api.MaxFilters {
 		return api.ErrFull, 0
 	}
-	e.filters = slices.Insert(e.filters, place, subscription{id, terms.CopyFilter(filter)})
+	kept := terms.NewFilter(id, filter)
+	e.filters = slices.Insert(e.filters, place, kept)
+	e.index.Add(kept)
+	e.tree = &lateTree{}
 	return api.OK, 0
 }
 
@@ -64,39 +89,62 @@ func (e *Engine) Unsubscribe(id int) api.Errno {
 	if !found {
 		return api.ErrNone
 	}
+	e.index.Remove(e.filters[place])
 	e.filters = slices.Delete(e.filters, place, place+1)
+	e.tree = &lateTree{}
 	return api.OK
 }
 
-// Match tells which filters an event meets (P6).
+// Match tells which filters an event meets (P6). The tree tells it without going through all of them.
 func (e *Engine) Match(event []api.Field) ([]int, api.Errno, int) {
+	return e.answer(event, e.metByTree)
+}
+
+// ByTree tells the same, by the tree alone (P7).
+func (e *Engine) ByTree(event []api.Field) ([]int, api.Errno, int) {
+	return e.answer(event, e.metByTree)
+}
+
+// ByCount tells the same, by the index that counts alone (P7).
+func (e *Engine) ByCount(event []api.Field) ([]int, api.Errno, int) {
+	return e.answer(event, e.index.Met)
+}
+
+func (e *Engine) metByTree(event *terms.Event) []int {
+	return e.askTree().Met(event)
+}
+
+// answer counts an event that may be, and tells which filters it meets by the means that it is given.
+func (e *Engine) answer(event []api.Field, met func(*terms.Event) []int) ([]int, api.Errno, int) {
 	read, at, ok := terms.ReadEvent(e.schema, event)
 	if !ok {
 		return nil, api.ErrEvent, at
 	}
-	var met []int
-	for _, s := range e.filters {
-		if read.Meets(s.filter) {
-			met = append(met, s.id)
-		}
-	}
-	return met, api.OK, 0
+	e.events.Add(1)
+	return met(&read), api.OK, 0
 }
-
-// ByTree tells the same, by the tree alone (P7).
-func (e *Engine) ByTree(event []api.Field) ([]int, api.Errno, int) { return nil, api.OK, 0 }
-
-// ByCount tells the same, by the index that counts alone (P7).
-func (e *Engine) ByCount(event []api.Field) ([]int, api.Errno, int) { return nil, api.OK, 0 }
 
 // Batch matches several events (P8).
 func (e *Engine) Batch(events [][]api.Field) ([][]int, api.Errno, int) { return nil, api.OK, 0 }
 
 // Rebuild makes the tree anew (P9).
-func (e *Engine) Rebuild(order []int) api.Errno { return api.OK }
+func (e *Engine) Rebuild(order []int) api.Errno {
+	if !terms.OrderMayBe(e.schema, order) {
+		return api.ErrOrder
+	}
+	e.order = slices.Clone(order)
+	e.tree = &lateTree{}
+	return api.OK
+}
 
 // Stats tells how large the engine is (P10).
-func (e *Engine) Stats() api.Stats { return api.Stats{} }
+func (e *Engine) Stats() api.Stats {
+	return api.Stats{
+		Filters: len(e.filters),
+		Nodes:   e.askTree().Nodes(),
+		Events:  int(e.events.Load()),
+	}
+}
 
 // Encode tells a filter as bytes (P11).
 func Encode(filter []api.Cond) (string, api.Errno) { return "", api.OK }
