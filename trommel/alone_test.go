@@ -1,9 +1,11 @@
 package trommel
 
 import (
+	"runtime"
 	"slices"
 	"sync"
 	"testing"
+	"time"
 
 	"trommel/api"
 	"trommel/index"
@@ -42,6 +44,8 @@ func TestTreeIsBuiltWhenFirstAsked(t *testing.T) {
 	e, event := oneFilter(t)
 	e.ByCount(event)
 	e.ByTree([]api.Field{{Attr: 9}})
+	e.Batch([][]api.Field{event, {{Attr: 9}}})
+	e.Batch(make([][]api.Field, api.MaxBatch+1))
 	if e.tree.built != nil {
 		t.Fatal("the tree was built ahead of being asked")
 	}
@@ -51,6 +55,7 @@ func TestTreeIsBuiltWhenFirstAsked(t *testing.T) {
 		t.Fatal("the tree was asked, and not built")
 	}
 	e.ByTree(event)
+	e.Batch([][]api.Field{event, event})
 	e.Stats()
 	e.Rebuild([]int{0, 0})
 	e.Unsubscribe(6)
@@ -88,6 +93,41 @@ func TestTreeIsBuiltOnce(t *testing.T) {
 	for _, other := range trees {
 		if other != trees[0] {
 			t.Fatal("the tree was built twice")
+		}
+	}
+}
+
+// While the tree is held up, all events of a batch come as far as to ask it: none waits for another to be done.
+func TestBatchHasAGoroutineForEachEvent(t *testing.T) {
+	e, event := oneFilter(t)
+	ready := e.askTree()
+	late := &lateTree{}
+	e.tree = late
+	held, letGo, answered := make(chan int), make(chan int), make(chan [][]int)
+	go late.once.Do(func() {
+		close(held)
+		<-letGo
+		late.built = ready
+	})
+	<-held
+	go func() {
+		answers, _, _ := e.Batch(slices.Repeat([][]api.Field{event}, api.MaxBatch))
+		answered <- answers
+	}()
+	for end := time.Now().Add(10 * time.Second); e.events.Load() < api.MaxBatch; runtime.Gosched() {
+		if time.Now().After(end) {
+			t.Fatalf("%d events are matched side by side", e.events.Load())
+		}
+	}
+	select {
+	case answers := <-answered:
+		t.Fatalf("P8: Batch answered ahead of its goroutines: %v", answers)
+	default:
+	}
+	close(letGo)
+	for i, ids := range <-answered {
+		if !slices.Equal(ids, []int{5}) {
+			t.Errorf("P8: event %d: %v", i, ids)
 		}
 	}
 }

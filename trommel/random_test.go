@@ -120,16 +120,24 @@ func modelMeets(fields []api.Field, c api.Cond) bool {
 	return false
 }
 
-func (m *model) match(fields []api.Field) ([]int, api.Errno, int) {
+// badField gives the number of the first field that may not be, or -1.
+func (m *model) badField(fields []api.Field) int {
 	for i, f := range fields {
 		if f.Attr < 0 || f.Attr >= len(m.schema) || !modelFits(m.schema[f.Attr], f.V) {
-			return nil, api.ErrEvent, i
+			return i
 		}
 		for _, earlier := range fields[:i] {
 			if earlier.Attr == f.Attr {
-				return nil, api.ErrEvent, i
+				return i
 			}
 		}
+	}
+	return -1
+}
+
+func (m *model) match(fields []api.Field) ([]int, api.Errno, int) {
+	if at := m.badField(fields); at >= 0 {
+		return nil, api.ErrEvent, at
 	}
 	var ids []int
 filters:
@@ -144,6 +152,23 @@ filters:
 	slices.Sort(ids)
 	m.events++
 	return ids, api.OK, 0
+}
+
+func (m *model) batch(events [][]api.Field) ([][]int, api.Errno, int) {
+	if len(events) > 50 {
+		return nil, api.ErrMany, 0
+	}
+	for i, fields := range events {
+		if m.badField(fields) >= 0 {
+			return nil, api.ErrEvent, i
+		}
+	}
+	var all [][]int
+	for _, fields := range events {
+		ids, _, _ := m.match(fields)
+		all = append(all, ids)
+	}
+	return all, api.OK, 0
 }
 
 func (m *model) rebuild(order []int) api.Errno {
@@ -232,6 +257,19 @@ func (r source) event(schema []int) []api.Field {
 	return l
 }
 
+// batch has events that may not be only now and then, since one of them is enough for all to be refused.
+func (r source) batch(m *model) [][]api.Field {
+	var l [][]api.Field
+	for range pick(r, 0, 1, 2, 5, 20, 49, 50, 51) {
+		fields := r.event(m.schema)
+		if m.badField(fields) >= 0 && r.IntN(20) > 0 {
+			fields = nil
+		}
+		l = append(l, fields)
+	}
+	return l
+}
+
 func (r source) id() int {
 	if r.IntN(20) == 0 {
 		return r.anyInt()
@@ -279,6 +317,8 @@ func step(t *testing.T, r source, p *pair) {
 		if s := p.engine.Stats(); !p.model.fits(s) {
 			t.Fatalf("P10: Stats() = %+v of %d filters and %d events", s, len(p.model.filters), p.model.events)
 		}
+	case 9:
+		stepBatch(t, r, p)
 	default:
 		stepMatch(t, r, p)
 	}
@@ -314,6 +354,29 @@ func stepMatch(t *testing.T, r source, p *pair) {
 	spoil(ids, 77)
 }
 
+func stepBatch(t *testing.T, r source, p *pair) {
+	t.Helper()
+	junk := field(77, num(77))
+	events := r.batch(&p.model)
+	var given [][]api.Field
+	for _, fields := range events {
+		given = append(given, withRoom(fields, junk))
+	}
+	got, no, at := p.engine.Batch(given)
+	want, wantNo, wantAt := p.model.batch(events)
+	if !slices.EqualFunc(got, want, slices.Equal) || no != wantNo || at != wantAt {
+		t.Fatalf("P8: Batch(%v) = %v, %d, %d, want %v, %d, %d", events, got, no, at, want, wantNo, wantAt)
+	}
+	for i, fields := range events {
+		wantWhole(t, "an event of a batch", given[i], fields, junk)
+		spoil(given[i], junk)
+	}
+	for _, ids := range got {
+		spoil(ids, 77)
+	}
+	spoil(got, nil)
+}
+
 // Several engines side by side answer as the model does, whatever each of them is asked.
 func TestRandomCalls(t *testing.T) {
 	r := source{rand.New(rand.NewPCG(1, 2))}
@@ -340,10 +403,12 @@ func TestOddArguments(t *testing.T) {
 		for _, a := range values {
 			l := event(field(attr, a), field(attr, a))
 			for _, fields := range [][]api.Field{l, l[:1]} {
-				if _, no, at := m.match(fields); no == api.OK {
+				if at := m.badField(fields); at < 0 {
 					wantMatch(t, e, fields)
+					wantBatch(t, e, [][]api.Field{nil, fields}, nil, nil)
 				} else {
 					wantRefused(t, e, fields, at)
+					wantBatchRefused(t, e, [][]api.Field{nil, fields}, api.ErrEvent, 1)
 				}
 			}
 			for _, kind := range edgeNumbers() {

@@ -114,18 +114,56 @@ func (e *Engine) metByTree(event *terms.Event) []int {
 	return e.askTree().Met(event)
 }
 
-// answer counts an event that may be, and tells which filters it meets by the means that it is given.
+// answer refuses an event that may not be, and tells of any other which filters it meets by the means that it is given.
 func (e *Engine) answer(event []api.Field, met func(*terms.Event) []int) ([]int, api.Errno, int) {
 	read, at, ok := terms.ReadEvent(e.schema, event)
 	if !ok {
 		return nil, api.ErrEvent, at
 	}
-	e.events.Add(1)
-	return met(&read), api.OK, 0
+	return e.counted(&read, met), api.OK, 0
 }
 
-// Batch matches several events (P8).
-func (e *Engine) Batch(events [][]api.Field) ([][]int, api.Errno, int) { return nil, api.OK, 0 }
+// counted tells which filters an event meets, and counts it. The events of a batch come here side by side.
+func (e *Engine) counted(event *terms.Event, met func(*terms.Event) []int) []int {
+	e.events.Add(1)
+	return met(event)
+}
+
+// Batch matches several events (P8). It reads all of them ahead, so that none is matched if one is refused.
+func (e *Engine) Batch(events [][]api.Field) ([][]int, api.Errno, int) {
+	if len(events) > api.MaxBatch {
+		return nil, api.ErrMany, 0
+	}
+	read, at, ok := e.readAll(events)
+	if !ok {
+		return nil, api.ErrEvent, at
+	}
+	return e.matchAll(read), api.OK, 0
+}
+
+// readAll lays out a batch's events. If one may not be, it gives the number of the first such event and false.
+func (e *Engine) readAll(events [][]api.Field) ([]terms.Event, int, bool) {
+	all := make([]terms.Event, len(events))
+	for i, fields := range events {
+		read, _, ok := terms.ReadEvent(e.schema, fields)
+		if !ok {
+			return nil, i, false
+		}
+		all[i] = read
+	}
+	return all, 0, true
+}
+
+// matchAll has each event matched by a goroutine, which writes into no element but its own: so the answer is the same whichever is done first.
+func (e *Engine) matchAll(events []terms.Event) [][]int {
+	answers := make([][]int, len(events))
+	var done sync.WaitGroup
+	for i := range events {
+		done.Go(func() { answers[i] = e.counted(&events[i], e.metByTree) })
+	}
+	done.Wait()
+	return answers
+}
 
 // Rebuild makes the tree anew (P9).
 func (e *Engine) Rebuild(order []int) api.Errno {
