@@ -17,8 +17,13 @@ func BadCond(schema []int, filter []api.Cond) (int, bool) {
 	return 0, false
 }
 
+// KindMayBe tells whether there is such a kind of condition.
+func KindMayBe(kind int) bool {
+	return kind >= api.Is && kind <= api.Has
+}
+
 func condMayBe(schema []int, c api.Cond) bool {
-	if !hasAttr(schema, c.Attr) || c.Kind < api.Is || c.Kind > api.Has {
+	if !hasAttr(schema, c.Attr) || !KindMayBe(c.Kind) {
 		return false
 	}
 	attrType := schema[c.Attr]

@@ -40,6 +40,14 @@ func TestFits(t *testing.T) {
 	}
 }
 
+func TestKindMayBe(t *testing.T) {
+	for kind := -1; kind <= 11; kind++ {
+		if KindMayBe(kind) != (kind >= 1 && kind <= 9) {
+			t.Errorf("KindMayBe(%d) = %v", kind, KindMayBe(kind))
+		}
+	}
+}
+
 func TestBadCond(t *testing.T) {
 	schema := []int{api.Number}
 	good, bad := api.Cond{Kind: api.Has}, api.Cond{Attr: 1, Kind: api.Has}

@@ -8,6 +8,7 @@ import (
 	"sync/atomic"
 
 	"trommel/api"
+	"trommel/code"
 	"trommel/index"
 	"trommel/terms"
 	"trommel/tree"
@@ -185,7 +186,7 @@ func (e *Engine) Stats() api.Stats {
 }
 
 // Encode tells a filter as bytes (P11).
-func Encode(filter []api.Cond) (string, api.Errno) { return "", api.OK }
+func Encode(filter []api.Cond) (string, api.Errno) { return code.Encode(filter) }
 
 // Decode reads them (P11).
-func Decode(bytes string) ([]api.Cond, api.Errno) { return nil, api.OK }
+func Decode(bytes string) ([]api.Cond, api.Errno) { return code.Decode(bytes) }
